@@ -1,0 +1,1 @@
+"""Commonage: one memory for programs on several machines."""

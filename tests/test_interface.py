@@ -1,0 +1,139 @@
+"""Point [1] and the first paragraphs of the interface: the names, where they are defined, and what they take."""
+
+import copy
+import importlib
+import inspect
+import unittest
+
+# What has landed of the interface: by module the functions with their arguments.
+FUNCTIONS = {
+    "commonage.programs": {
+        "is_program": ["value"],
+        "instruction_at": ["program", "place"],
+        "touch_of": ["instruction", "registers", "words"],
+        "after": ["instruction", "registers", "place"],
+    },
+    "commonage.clocks": {
+        "zero_clock": ["machines"],
+        "merged": ["one", "other"],
+        "with_count": ["clock", "machine", "count"],
+        "covers": ["clock", "machine", "number"],
+        "is_within": ["one", "other"],
+        "make_record": ["machine", "number", "clock", "loads", "stores"],
+        "is_before": ["one", "other"],
+        "are_unordered": ["one", "other"],
+        "not_covered": ["records", "clock"],
+        "covered": ["records", "clock"],
+    },
+}
+CLASSES = {"commonage.errors": ["CommonageError", "NotValid"]}
+VALUES = {"commonage.programs": {"REGISTERS": 8, "LOCKS": 4}}
+
+ONE = (0, 2, (2, 1), (1,), (2,))
+OTHER = (1, 3, (2, 3), (), (2,))
+REGISTERS = [4, -5, 6, 7, 0, 0, 0, 1]
+
+# A call of each function, by the names of its arguments, and what it returns.
+CALLS = [
+    ("commonage.programs", "is_program", {"value": [("end",), ("jump", 0)]}, True),
+    ("commonage.programs", "is_program", {"value": [("end",), ["end"]]}, False),
+    ("commonage.programs", "instruction_at", {"program": [("barrier",)], "place": 0}, ("barrier",)),
+    ("commonage.programs", "instruction_at", {"program": [("barrier",)], "place": 1}, ("end",)),
+    ("commonage.programs", "touch_of", {"instruction": ("load", 0, 1), "registers": REGISTERS, "words": 8}, ("load", 3)),
+    ("commonage.programs", "touch_of", {"instruction": ("end",), "registers": REGISTERS, "words": 8}, None),
+    (
+        "commonage.programs", "after", {"instruction": ("mul", 0, 1, 2), "registers": REGISTERS, "place": 0},
+        ([-30, -5, 6, 7, 0, 0, 0, 1], 1),
+    ),
+    ("commonage.programs", "after", {"instruction": ("jump", 7), "registers": REGISTERS, "place": 0}, (REGISTERS, 7)),
+    ("commonage.clocks", "zero_clock", {"machines": 3}, (0, 0, 0)),
+    ("commonage.clocks", "merged", {"one": (1, 4), "other": (2, 3)}, (2, 4)),
+    ("commonage.clocks", "with_count", {"clock": (1, 4), "machine": 1, "count": 6}, (1, 6)),
+    ("commonage.clocks", "covers", {"clock": (1, 4), "machine": 1, "number": 4}, True),
+    ("commonage.clocks", "is_within", {"one": (1, 4), "other": (1, 3)}, False),
+    (
+        "commonage.clocks", "make_record",
+        {"machine": 0, "number": 2, "clock": (2, 1), "loads": [1, 1], "stores": [2]}, ONE,
+    ),
+    ("commonage.clocks", "is_before", {"one": ONE, "other": OTHER}, True),
+    ("commonage.clocks", "are_unordered", {"one": ONE, "other": OTHER}, False),
+    ("commonage.clocks", "not_covered", {"records": [OTHER, ONE], "clock": (2, 2)}, [OTHER]),
+    ("commonage.clocks", "covered", {"records": [OTHER, ONE], "clock": (2, 3)}, [ONE, OTHER]),
+]
+
+
+def found(module, name):
+    return getattr(importlib.import_module(module), name)
+
+
+def kinds_of(value):
+    """The kinds of a value and of all that it contains, so that True and 1 are not the same."""
+    if isinstance(value, (list, tuple)):
+        return (type(value), [kinds_of(part) for part in value])
+    return type(value)
+
+
+class Interface(unittest.TestCase):
+    def test_functions_have_their_arguments_and_their_file(self):
+        for module, functions in FUNCTIONS.items():
+            for name, arguments in functions.items():
+                with self.subTest(module=module, name=name):
+                    function = found(module, name)
+                    self.assertTrue(inspect.isfunction(function))
+                    self.assertEqual(function.__module__, module)
+                    parameters = inspect.signature(function).parameters.values()
+                    self.assertEqual([one.name for one in parameters], arguments)
+                    for one in parameters:
+                        self.assertIs(one.default, inspect.Parameter.empty)
+                        self.assertIs(one.kind, inspect.Parameter.POSITIONAL_OR_KEYWORD)
+
+    def test_classes_have_their_file(self):
+        for module, names in CLASSES.items():
+            for name in names:
+                with self.subTest(module=module, name=name):
+                    self.assertTrue(inspect.isclass(found(module, name)))
+                    self.assertEqual(found(module, name).__module__, module)
+
+    def test_values(self):
+        for module, names in VALUES.items():
+            for name, value in names.items():
+                self.assertEqual((found(module, name), type(found(module, name))), (value, type(value)))
+
+    def test_each_function_is_called_below(self):
+        names = [(module, name) for module, functions in FUNCTIONS.items() for name in functions]
+        self.assertEqual({(module, name) for module, name, _, _ in CALLS}, set(names))
+
+    def test_values_and_their_kinds(self):
+        for module, name, arguments, expected in CALLS:
+            with self.subTest(module=module, name=name):
+                result = found(module, name)(**copy.deepcopy(arguments))
+                self.assertEqual(result, expected)
+                self.assertEqual(kinds_of(result), kinds_of(expected))
+
+    def test_no_argument_changes(self):
+        for module, name, arguments, _ in CALLS:
+            with self.subTest(module=module, name=name):
+                passed = copy.deepcopy(arguments)
+                found(module, name)(**passed)
+                self.assertEqual(passed, arguments)
+                self.assertEqual(kinds_of(list(passed.values())), kinds_of(list(arguments.values())))
+
+    def test_calls_do_not_change_what_was_returned(self):
+        results = [found(module, name)(**copy.deepcopy(arguments)) for module, name, arguments, _ in CALLS]
+        kept = copy.deepcopy(results)
+        for module, name, arguments, _ in CALLS:
+            found(module, name)(**copy.deepcopy(arguments))
+        self.assertEqual(results, kept)
+
+    def test_what_is_returned_is_not_kept(self):
+        for module, name, arguments, expected in CALLS:
+            with self.subTest(module=module, name=name):
+                result = found(module, name)(**copy.deepcopy(arguments))
+                for value in [result, *(result if isinstance(result, tuple) else ())]:
+                    if isinstance(value, list):
+                        value.clear()
+                self.assertEqual(found(module, name)(**copy.deepcopy(arguments)), expected)
+
+
+if __name__ == "__main__":
+    unittest.main()
