@@ -50,8 +50,31 @@ FUNCTIONS = {
         "ask": ["lock", "machine", "clock"],
         "let_go": ["lock", "clock"],
     },
+    "commonage.barriers": {
+        "new_master": [],
+        "come": ["master", "machine", "clock", "ended"],
+        "is_complete": ["master", "machines"],
+        "clocks_of": ["master"],
+        "go_on": ["master", "machines"],
+        "is_over": ["master"],
+    },
+    "commonage.channels": {
+        "new_rows": ["machines"],
+        "send": ["rows", "target", "letter"],
+        "take": ["rows", "source", "parcel"],
+        "answer": ["rows", "source"],
+        "confirm": ["rows", "target", "number"],
+        "parcels": ["rows", "target"],
+    },
+    "commonage.logs": {"copied": ["value"]},
 }
-CLASSES = {"commonage.errors": ["CommonageError", "NotValid"]}
+CLASSES = {"commonage.errors": ["CommonageError", "NotValid"], "commonage.logs": ["Disk"]}
+# By class what an object is made of, and the methods with their arguments.
+METHODS = {
+    ("commonage.logs", "Disk"): {
+        "__init__": [], "write": ["entry"], "save": ["value"], "saved": [], "entries": [],
+    },
+}
 VALUES = {
     "commonage.programs": {"REGISTERS": 8, "LOCKS": 4},
     "commonage.pages": {"PAGE_WORDS": 4, "MAX_PAGES": 12, "FIRST_CELL": (0, (0, 0))},
@@ -66,6 +89,11 @@ CHANGED = {
     ("commonage.homes", "had"): "held",
     ("commonage.locks", "ask"): "lock",
     ("commonage.locks", "let_go"): "lock",
+    ("commonage.barriers", "come"): "master",
+    ("commonage.barriers", "go_on"): "master",
+    ("commonage.channels", "send"): "rows",
+    ("commonage.channels", "take"): "rows",
+    ("commonage.channels", "confirm"): "rows",
 }
 
 ONE = (0, 2, (2, 1), (1,), (2,))
@@ -75,6 +103,9 @@ PAPER = (2, (0, 2, (2, 1), "store"), (1, 3, (1, 3), "load"))
 REGISTERS = [4, -5, 6, 7, 0, 0, 0, 1]
 PAGE = [(0, (0, 0)), (5, (1, 1)), (0, (0, 0)), (6, (2, 0))]
 HELD = {"need": (2, 1), "has": (0, 1)}
+MASTER = {"come": [(1, (0, 4)), (0, (3, 0))], "ended": [(1, (0, 4))], "number": 2, "over": False}
+ROWS = {"sent": [0, 2], "taken": [0, 3], "kept": [[], [(2, ("a",))]]}
+PLAIN = {"a": [1, (2, None, [])], (0, 1): ("b", True)}
 LOCK = {"holder": 1, "queue": [(0, (3, 0))], "clock": (0, 1), "grants": 2}
 
 # A call of each function, by the names of its arguments, and what it returns.
@@ -128,6 +159,20 @@ CALLS = [
     ("commonage.locks", "new_lock", {"machines": 2}, {"holder": None, "queue": [], "clock": (0, 0), "grants": 0}),
     ("commonage.locks", "ask", {"lock": LOCK, "machine": 0, "clock": (4, 0)}, None),
     ("commonage.locks", "let_go", {"lock": LOCK, "clock": (0, 5)}, (0, (3, 0), 3, (0, 5))),
+    ("commonage.barriers", "new_master", {}, {"come": [], "ended": [], "number": 0, "over": False}),
+    ("commonage.barriers", "come", {"master": MASTER, "machine": 2, "clock": (0, 0, 1), "ended": True}, None),
+    ("commonage.barriers", "is_complete", {"master": MASTER, "machines": 2}, True),
+    ("commonage.barriers", "is_complete", {"master": MASTER, "machines": 3}, False),
+    ("commonage.barriers", "clocks_of", {"master": MASTER}, {1: (0, 4), 0: (3, 0)}),
+    ("commonage.barriers", "go_on", {"master": MASTER, "machines": 2}, 3),
+    ("commonage.barriers", "is_over", {"master": MASTER}, False),
+    ("commonage.channels", "new_rows", {"machines": 2}, {"sent": [0, 0], "taken": [0, 0], "kept": [[], []]}),
+    ("commonage.channels", "send", {"rows": ROWS, "target": 1, "letter": ("b", 5)}, (3, ("b", 5))),
+    ("commonage.channels", "take", {"rows": ROWS, "source": 1, "parcel": (4, ("c",))}, ("c",)),
+    ("commonage.channels", "answer", {"rows": ROWS, "source": 1}, 3),
+    ("commonage.channels", "confirm", {"rows": ROWS, "target": 1, "number": 2}, None),
+    ("commonage.channels", "parcels", {"rows": ROWS, "target": 1}, [(2, ("a",))]),
+    ("commonage.logs", "copied", {"value": PLAIN}, {"a": [1, (2, None, [])], (0, 1): ("b", True)}),
 ]
 
 
@@ -164,6 +209,16 @@ class Interface(unittest.TestCase):
                 with self.subTest(module=module, name=name):
                     self.assertTrue(inspect.isclass(found(module, name)))
                     self.assertEqual(found(module, name).__module__, module)
+
+    def test_methods_have_their_arguments_and_their_class(self):
+        for (module, name), methods in METHODS.items():
+            for method, arguments in methods.items():
+                with self.subTest(module=module, name=name, method=method):
+                    function = found(module, name).__dict__[method]
+                    self.assertTrue(inspect.isfunction(function))
+                    parameters = list(inspect.signature(function).parameters.values())[1:]
+                    self.assertEqual([one.name for one in parameters], arguments)
+                    self.assertTrue(all(one.default is inspect.Parameter.empty for one in parameters))
 
     def test_values(self):
         for module, names in VALUES.items():
