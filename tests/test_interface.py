@@ -67,12 +67,36 @@ FUNCTIONS = {
         "parcels": ["rows", "target"],
     },
     "commonage.logs": {"copied": ["value"]},
+    "commonage.traces": {
+        "clocks_of": ["trace"],
+        "comes_before": ["clocks", "one", "other"],
+        "intervals_of": ["events"],
+        "races_of": ["trace"],
+        "one_order": ["trace"],
+    },
+    "commonage.judge": {"first_fault": ["trace"], "differing": ["trace", "order"]},
 }
-CLASSES = {"commonage.errors": ["CommonageError", "NotValid"], "commonage.logs": ["Disk"]}
+CLASSES = {
+    "commonage.errors": ["CommonageError", "NotValid"],
+    "commonage.logs": ["Disk"],
+    "commonage.nodes": ["Node"],
+    "commonage.world": ["World"],
+}
 # By class what an object is made of, and the methods with their arguments.
 METHODS = {
     ("commonage.logs", "Disk"): {
         "__init__": [], "write": ["entry"], "save": ["value"], "saved": [], "entries": [],
+    },
+    ("commonage.nodes", "Node"): {
+        "__init__": ["machine", "machines", "program", "pages", "disk"],
+        "step": [], "take": ["source", "parcel"], "answer": ["source"], "confirm": ["target", "number"],
+        "again": ["target"], "save": [], "state": [], "steps": [], "clock": [], "events": [], "races": [],
+        "copy_of": ["page"], "homes": [], "waits_for": [], "known": [], "holder": ["lock"],
+    },
+    ("commonage.world", "World"): {
+        "__init__": ["programs", "pages"],
+        "play": ["acts"], "settle": ["rounds"], "trace": [], "races": [], "states": [], "waiting": [], "net": [],
+        "word": ["machine", "address"],
     },
 }
 VALUES = {
@@ -106,6 +130,11 @@ HELD = {"need": (2, 1), "has": (0, 1)}
 MASTER = {"come": [(1, (0, 4)), (0, (3, 0))], "ended": [(1, (0, 4))], "number": 2, "over": False}
 ROWS = {"sent": [0, 2], "taken": [0, 3], "kept": [[], [(2, ("a",))]]}
 PLAIN = {"a": [1, (2, None, [])], (0, 1): ("b", True)}
+TRACE = [
+    [("store", 1, 5, (1, 0)), ("release", 0, 1), ("store", 1, 6, (2, 0))],
+    [("acquire", 0, 2), ("load", 1, 5, (1, 0)), ("store", 2, 4, (1, 1))],
+]
+TRACE_CLOCKS = [[(1, 0), (2, 0), (3, 0)], [(2, 1), (2, 2), (2, 3)]]
 LOCK = {"holder": 1, "queue": [(0, (3, 0))], "clock": (0, 1), "grants": 2}
 
 # A call of each function, by the names of its arguments, and what it returns.
@@ -173,6 +202,16 @@ CALLS = [
     ("commonage.channels", "confirm", {"rows": ROWS, "target": 1, "number": 2}, None),
     ("commonage.channels", "parcels", {"rows": ROWS, "target": 1}, [(2, ("a",))]),
     ("commonage.logs", "copied", {"value": PLAIN}, {"a": [1, (2, None, [])], (0, 1): ("b", True)}),
+    ("commonage.traces", "clocks_of", {"trace": TRACE}, TRACE_CLOCKS),
+    ("commonage.traces", "clocks_of", {"trace": [[("acquire", 0, 2), ("release", 0, 1)]]}, None),
+    ("commonage.traces", "comes_before", {"clocks": TRACE_CLOCKS, "one": (0, 1), "other": (1, 0)}, True),
+    ("commonage.traces", "comes_before", {"clocks": TRACE_CLOCKS, "one": (0, 2), "other": (1, 2)}, False),
+    ("commonage.traces", "intervals_of", {"events": TRACE[0]}, [1, 1, 2]),
+    ("commonage.traces", "races_of", {"trace": TRACE}, [(1, (0, 2), (1, 2))]),
+    ("commonage.traces", "one_order", {"trace": TRACE}, [(0, 0), (0, 1), (0, 2), (1, 0), (1, 1), (1, 2)]),
+    ("commonage.judge", "first_fault", {"trace": [[("store", 1, 5, (0, 0))]]}, ("key", 0, 0)),
+    ("commonage.judge", "first_fault", {"trace": []}, ("", -1, -1)),
+    ("commonage.judge", "differing", {"trace": TRACE, "order": [(0, 0), (0, 2), (1, 1)]}, [(1, 1)]),
 ]
 
 
