@@ -217,14 +217,21 @@ def take_letter(core, source, letter):
     taker(core, source, letter)
 
 
-def take_parcel(core, source, parcel):
-    """A parcel arrives: returns its letter if it is the next one of its row, otherwise None."""
-    return take(core["rows"], source, parcel)
-
-
 def taken_from(core, source):
     """The number of the answer to a machine."""
     return answer(core["rows"], source)
+
+
+def is_next(core, source, parcel):
+    """True if the parcel is the next one of the row from the source."""
+    return parcel[0] == taken_from(core, source) + 1
+
+
+def take_parcel(core, source, parcel):
+    """A parcel arrives: what its letter says is done, if it is the next one of its row."""
+    letter = take(core["rows"], source, parcel)
+    if letter is not None:
+        take_letter(core, source, letter)
 
 
 def take_answer(core, target, number):

@@ -2,7 +2,7 @@
 
 from commonage.clocks import ascending
 from commonage.cores import new_core, take_sent
-from commonage.letters import kept_for, list_of_records, take_answer, take_letter, take_parcel, taken_from
+from commonage.letters import is_next, kept_for, list_of_records, take_answer, take_parcel, taken_from
 from commonage.pages import new_page
 from commonage.steps import follow, make_step
 
@@ -38,11 +38,11 @@ class Node:
 
     def take(self, source, parcel):
         """A parcel arrives; returns the list of what was sent by it."""
-        letter = take_parcel(self._core, source, parcel)
-        if letter is None:
+        if not is_next(self._core, source, parcel):
             return []
+        # Nothing may come of a letter that is not on the disk.
         self._disk.write(("letter", self._core["steps"], source, parcel))
-        take_letter(self._core, source, letter)
+        take_parcel(self._core, source, parcel)
         return take_sent(self._core)
 
     def answer(self, source):

@@ -3,7 +3,7 @@
 from commonage.clocks import make_record, with_count
 from commonage.cores import go_to_next_place, is_ready, note, wait_for
 from commonage.homes import arrived
-from commonage.letters import answer_asks, know, send_letter, take_letter, take_parcel, untold
+from commonage.letters import answer_asks, know, send_letter, take_parcel, untold
 from commonage.locks import manager_of
 from commonage.pages import PAGE_WORDS, difference, page_of, place_of, store
 from commonage.programs import after, instruction_at, touch_of, value_in, with_value
@@ -175,6 +175,4 @@ def follow(core, program, entry):
         make_step(core, program)
     if entry[0] == "letter":
         source, parcel = entry[2:]
-        letter = take_parcel(core, source, parcel)
-        if letter is not None:
-            take_letter(core, source, letter)
+        take_parcel(core, source, parcel)

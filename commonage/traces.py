@@ -159,7 +159,8 @@ def races_of(trace):
     clocks = clocks_of(trace)
     races = []
     for word, touches in touches_of(trace).items():
-        sides = sorted(touches.items(), key=lambda side: side[0])
+        # They were found by machine and interval, so that the lesser machine stands first in each pair.
+        sides = list(touches.items())
         races.extend([(word, one[0], other[0]) for one, other in combinations(sides, 2) if do_race(clocks, one, other)])
     return sorted(races)
 

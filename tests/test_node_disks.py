@@ -93,7 +93,7 @@ class Entries(unittest.TestCase):
         node.take(0, parcel)
         entry, seen = disk.seen[-1]
         self.assertEqual(entry, ("letter", 2, 0, parcel))
-        for name in ("state", "clock", "events", "known", "waits"):
+        for name in ("state", "clock", "events", "known", "waits", "answers"):
             self.assertEqual(seen[name], before[name])
             self.assertNotEqual(seen[name], told_by(node, 3, 1)[name])
         rows = tuple((place, 5, (1, 0)) for place in range(4))
